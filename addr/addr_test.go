@@ -9,24 +9,8 @@ import (
 
 	"cracknel/addr"
 	"cracknel/api"
+	"cracknel/sample"
 )
-
-// texts answers all texts of at most n of the parts.
-func texts(n int, parts ...string) []string {
-	all := []string{""}
-	longest := all
-	for range n {
-		var longer []string
-		for _, s := range longest {
-			for _, part := range parts {
-				longer = append(longer, s+part)
-			}
-		}
-		all = append(all, longer...)
-		longest = longer
-	}
-	return all
-}
 
 func isV4(t *testing.T, s string, want api.Addr) {
 	t.Helper()
@@ -105,7 +89,7 @@ func TestNoV4(t *testing.T) {
 
 // The library tells the same addresses of four numbers.
 func TestV4OfManyTexts(t *testing.T) {
-	for _, s := range texts(7, ".", "0", "1", "25", "5") {
+	for _, s := range sample.Texts(7, ".", "0", "1", "25", "5") {
 		a, err := netip.ParseAddr(s)
 		if err != nil {
 			notV4(t, s)
@@ -230,9 +214,9 @@ func TestV6OfEachByte(t *testing.T) {
 // The library tells the same addresses of eight groups, where no points are
 // in the text, and no zone.
 func TestV6OfManyTexts(t *testing.T) {
-	all := texts(9, ":", "0", "a1")
-	all = append(all, texts(7, "::", "00", "F:", ":1", "12g")...)
-	for _, s := range texts(6, ":1", ":0", "::", ":") {
+	all := sample.Texts(9, ":", "0", "a1")
+	all = append(all, sample.Texts(7, "::", "00", "F:", ":1", "12g")...)
+	for _, s := range sample.Texts(6, ":1", ":0", "::", ":") {
 		all = append(all, "1:2"+s, "1:2:0:4"+s, "0:0"+s)
 	}
 	for _, s := range all {
@@ -394,14 +378,8 @@ func answers(s string) string {
 }
 
 func TestAnswersHangOnArgumentsAlone(t *testing.T) {
-	all := texts(5, ":", "::", ".", "1", "0a", "255", "\xff")
-	first := make([]string, len(all))
-	for i, s := range all {
-		first[i] = answers(s)
-	}
-	for i := len(all) - 1; i >= 0; i-- {
-		if again := answers(all[i]); again != first[i] {
-			t.Errorf("%q: %s, then %s", all[i], first[i], again)
-		}
+	all := sample.Texts(5, ":", "::", ".", "1", "0a", "255", "\xff")
+	for _, s := range sample.Unsteady(all, answers) {
+		t.Errorf("%q: two answers", s)
 	}
 }

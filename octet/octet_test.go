@@ -7,6 +7,7 @@ import (
 	"testing"
 
 	"cracknel/octet"
+	"cracknel/sample"
 )
 
 // alphabet has the bytes of which any call of this layer makes a difference.
@@ -14,19 +15,11 @@ const alphabet = "\x00\t\n\r !%,0129@AFZ[`afz{~\x7f\x80\xff"
 
 // texts answers all texts of at most n bytes of the alphabet.
 func texts(n int) []string {
-	all := []string{""}
-	longest := all
-	for range n {
-		var longer []string
-		for _, s := range longest {
-			for i := range len(alphabet) {
-				longer = append(longer, s+alphabet[i:i+1])
-			}
-		}
-		all = append(all, longer...)
-		longest = longer
+	var parts []string
+	for i := range len(alphabet) {
+		parts = append(parts, alphabet[i:i+1])
 	}
-	return all
+	return sample.Texts(n, parts...)
 }
 
 func oneByte(c int) string { return string([]byte{byte(c)}) }
@@ -449,14 +442,8 @@ func answers(s string) string {
 
 func TestAnswersHangOnArgumentsAlone(t *testing.T) {
 	all := texts(2)
-	first := make([]string, len(all))
-	for i, s := range all {
-		first[i] = answers(s)
-	}
-	for i := len(all) - 1; i >= 0; i-- {
-		if again := answers(all[i]); again != first[i] {
-			t.Errorf("%q: %s, then %s", all[i], first[i], again)
-		}
+	for _, s := range sample.Unsteady(all, answers) {
+		t.Errorf("%q: two answers", s)
 	}
 }
 
