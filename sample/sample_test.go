@@ -4,6 +4,7 @@ import (
 	"slices"
 	"testing"
 
+	"cracknel/host"
 	"cracknel/sample"
 )
 
@@ -28,5 +29,17 @@ func TestUnsteady(t *testing.T) {
 	})
 	if !slices.Equal(got, []string{"c", "b", "a"}) {
 		t.Errorf("%q", got)
+	}
+}
+
+func TestWrongHosts(t *testing.T) {
+	all := sample.WrongHosts()
+	if len(all) < 100 {
+		t.Errorf("%d hosts", len(all))
+	}
+	for _, h := range all {
+		if host.Right(h) {
+			t.Errorf("Right(%.100v)", h)
+		}
 	}
 }

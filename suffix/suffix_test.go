@@ -304,22 +304,8 @@ func TestAddresses(t *testing.T) {
 
 // No call says anything of a host that isn't right.
 func TestHostsThatAreNotRight(t *testing.T) {
-	v4, v6 := api.Addr{12: 1, 13: 2, 14: 3, 15: 4}, api.Addr{0: 0x20, 1: 1, 15: 1}
-	hosts := []api.Host{
-		{}, {Kind: 2, Addr: v6}, {Kind: 2, Addr: api.Addr{0: 1}}, {Kind: 2, Addr: api.Addr{11: 1, 15: 1}}, {Kind: 2, Name: "1.2.3.4", Addr: v4}, {Kind: 2, Name: "com", Addr: v4}, {Kind: 3, Name: "[2001::1]", Addr: v6}, {Kind: 3, Name: "a.com", Addr: v6},
-		{Kind: 1, Addr: v4}, {Kind: 1, Name: "com", Addr: v4}, {Kind: 1, Name: "a.com", Addr: v6}, {Kind: 1, Name: "a.com", Addr: api.Addr{15: 1}}, {Kind: 2, Name: "a.com"}, {Kind: 3, Name: "a.com"},
-	}
-	for _, kind := range []int{0, 4, 5, -1, -2, 257, 258, 259, 1<<32 + 1, 1<<32 + 2, 1<<32 + 3, 1<<63 - 1, -1 << 63, -1<<63 + 1} {
-		hosts = append(hosts, api.Host{Kind: kind}, api.Host{Kind: kind, Name: "com"}, api.Host{Kind: kind, Name: "a.com"}, api.Host{Kind: kind, Addr: v4}, api.Host{Kind: kind, Addr: v6})
-	}
-	for _, name := range []string{
-		"", ".", "..", "A", "COM", "Com", "A.com", "a.Com", "b.A.com", ".com", "com.", "a..com", ".a.com", "a.com.", "1", "1.2.3.4", "a.1", "com.0", "[::1]", "::1", "*", "*.com", "!a.com", " com", "com ", "a com", "a.com\n", "a.com\x00", "a.com\xff", "ä.com", "a.com/", "a.com:80",
-		strings.Repeat("a", 64), strings.Repeat("a", 64) + ".com", "a." + strings.Repeat("c", 64), deepest + "a", "a." + deepest, strings.Repeat("a.", 130) + "com",
-	} {
-		hosts = append(hosts, named(name))
-	}
 	for _, x := range tables(t) {
-		for _, h := range hosts {
+		for _, h := range sample.WrongHosts() {
 			isAll(t, x, h, 0, false, "")
 		}
 	}
