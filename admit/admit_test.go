@@ -170,28 +170,6 @@ func TestPrefixOfOtherBytes(t *testing.T) {
 
 // P10.2
 
-// wrongURLs: those that no text is.
-func wrongURLs(t *testing.T) []api.URL {
-	good := at(t, "https://a.x.com/p/q")
-	var all []api.URL
-	add := func(change func(u *api.URL)) {
-		u := good
-		change(&u)
-		all = append(all, u)
-	}
-	add(func(u *api.URL) { *u = api.URL{} })
-	for _, port := range []int{0, -1, 65536, 1<<32 + 443, math.MaxInt, math.MinInt} {
-		add(func(u *api.URL) { u.Port = port })
-	}
-	for _, path := range []string{"", "a", "a/b", "/a b", "/a?b", "/a#b", "/\x00", "/\x7f", "/\xff", " /", "/" + of(2048, "a")} {
-		add(func(u *api.URL) { u.Path = path })
-	}
-	for _, h := range sample.WrongHosts() {
-		add(func(u *api.URL) { u.Host = h })
-	}
-	return all
-}
-
 // wrongHeaders: those that no text is.
 func wrongHeaders() []api.Header {
 	good := api.Header{Name: "a", Value: "b"}
@@ -236,7 +214,7 @@ var wrongTimes = []int64{-1, -1000, math.MinInt64, 1<<40 + 1, 1 << 41, 1 << 62, 
 var faulty = []string{"a=b", "a=b; Domain=x..com", "a=b; Domain=com", "a=b; Domain=y.com", "a=b; Secure", "a=b; SameSite=None", "__Secure-a=b", "__Host-a=b; Path=/"}
 
 func TestWrongURLs(t *testing.T) {
-	for _, u := range wrongURLs(t) {
+	for _, u := range sample.WrongURLs() {
 		for _, h := range faulty {
 			isRefused(t, u, says(t, h), noon, api.ErrURL)
 		}

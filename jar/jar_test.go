@@ -510,24 +510,6 @@ func TestSetWhereOneHasEnded(t *testing.T) {
 	}
 }
 
-// wrongURLs: those that no text is.
-func wrongURLs(t *testing.T) []api.URL {
-	all := []api.URL{{}, {Secure: true}}
-	for _, good := range []string{"http://x.com/p", "https://x.com/p"} {
-		u := at(t, good)
-		for _, h := range sample.WrongHosts() {
-			all = append(all, api.URL{Secure: u.Secure, Host: h, Port: u.Port, Path: u.Path})
-		}
-		for _, port := range []int{0, -1, 65536, 1<<32 + 80, math.MaxInt, math.MinInt} {
-			all = append(all, api.URL{Secure: u.Secure, Host: u.Host, Port: port, Path: u.Path})
-		}
-		for _, path := range []string{"", "p", "/a b", "/a?b", "/a#b", "/\x00", "/\xff", "/" + of(2048, "a")} {
-			all = append(all, api.URL{Secure: u.Secure, Host: u.Host, Port: u.Port, Path: path})
-		}
-	}
-	return all
-}
-
 // state: all that a jar tells, without a Get.
 func state(j *jar.Jar) string { return fmt.Sprint(j.Now(), j.Cookies()) }
 
@@ -553,7 +535,7 @@ func isUnchanged(t *testing.T, j *jar.Jar) {
 
 func TestSetOfWrongURLs(t *testing.T) {
 	j := full(t)
-	for _, u := range wrongURLs(t) {
+	for _, u := range sample.WrongURLs() {
 		for _, text := range []string{"a=2", "s=2", "", "a\x00", "; Path=/", "a=" + of(4096, "b"), "a=2; Domain=com", "a=2; Secure", "a=2; Max-Age=0"} {
 			isSetAt(t, j, u, text, api.ErrURL)
 		}

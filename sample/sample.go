@@ -66,3 +66,33 @@ func wrongNames() []string {
 		long, long + ".com", "a." + long, deep + "aa", deep + "a.a", deep + "a.a.com",
 	}
 }
+
+// WrongPaths answers texts that are no paths.
+func WrongPaths() []string {
+	longest := "/" + strings.Repeat("x", api.MaxPath-1)
+	return []string{
+		"", "a", "a/", "a/b", "p", "?", "#", "/?", "/#", "/a?", "/a?b", "/a#b", " ", " /", "/ ", "/a b", "/\t", "/\n", "/a\n", "/\x00", "/\x1f", "/\x7f", "/\x80", "/\xff", "/\u00e4",
+		longest + "x", longest[:api.MaxPath-1] + "?", longest + " ", strings.Repeat("/", 1<<16),
+	}
+}
+
+// WrongURLs answers URLs that no text is: each would be one, but for its host,
+// its port or its path, or for what it lacks.
+func WrongURLs() []api.URL {
+	h := api.Host{Kind: api.HostName, Name: "a.x.com"}
+	all := []api.URL{{}, {Host: h}, {Port: 80}, {Path: "/"}, {Host: h, Port: 80}, {Host: h, Path: "/"}, {Port: 80, Path: "/"}}
+	for _, wrong := range WrongHosts() {
+		all = append(all, api.URL{Host: wrong, Port: 80, Path: "/p"})
+	}
+	for _, port := range []int{0, -1, -80, -443, -65535, -65456, 65536, 65537, 65616, 65979, 131152, 1 << 20, 1<<32 + 80, 1<<48 + 443, 1<<63 - 1, -1 << 63} {
+		all = append(all, api.URL{Host: h, Port: port, Path: "/p"})
+	}
+	for _, path := range WrongPaths() {
+		all = append(all, api.URL{Host: h, Port: 80, Path: path})
+	}
+	for _, u := range all {
+		u.Secure = true
+		all = append(all, u)
+	}
+	return all
+}

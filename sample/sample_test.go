@@ -6,6 +6,7 @@ import (
 
 	"cracknel/host"
 	"cracknel/sample"
+	"cracknel/url"
 )
 
 func TestTexts(t *testing.T) {
@@ -40,6 +41,30 @@ func TestWrongHosts(t *testing.T) {
 	for _, h := range all {
 		if host.Right(h) {
 			t.Errorf("Right(%.100v)", h)
+		}
+	}
+}
+
+func TestWrongPaths(t *testing.T) {
+	all := sample.WrongPaths()
+	if len(all) < 20 {
+		t.Errorf("%d paths", len(all))
+	}
+	for _, path := range all {
+		if url.Path(path) {
+			t.Errorf("Path(%.100q)", path)
+		}
+	}
+}
+
+func TestWrongURLs(t *testing.T) {
+	all := sample.WrongURLs()
+	if len(all) < 300 {
+		t.Errorf("%d URLs", len(all))
+	}
+	for _, u := range all {
+		if url.Right(u) {
+			t.Errorf("Right(%.100v)", u)
 		}
 	}
 }

@@ -132,31 +132,8 @@ func TestText(t *testing.T) {
 	}
 }
 
-// wrong answers URLs that Parse never answers.
-func wrong() []api.URL {
-	a := api.Host{Kind: api.HostName, Name: "a"}
-	all := []api.URL{{}, {Secure: true}, {Host: a}, {Port: 80}, {Path: "/"}, {Host: a, Port: 80}, {Host: a, Path: "/"}, {Port: 80, Path: "/"}}
-	for _, port := range []int{0, -1, -80, -443, -65535, -65456, 65536, 65537, 65616, 65979, 131152, 1 << 20, 1<<32 + 80, 1<<48 + 443, 1<<63 - 1, -1 << 63} {
-		all = append(all, api.URL{Host: a, Port: port, Path: "/"})
-	}
-	for _, h := range []api.Host{
-		{}, {Name: "a"}, {Kind: 1}, {Kind: 1, Name: "A"}, {Kind: 1, Name: "a."}, {Kind: 1, Name: "a b"}, {Kind: 1, Name: "a/b"}, {Kind: 1, Name: "a:80"}, {Kind: 1, Name: "a.1"}, {Kind: 1, Name: "1.2.3.4"}, {Kind: 1, Name: "[::1]"}, {Kind: 1, Name: longHost + "c"},
-		{Kind: 1, Name: "a", Addr: api.Addr{15: 1}}, {Kind: 2, Name: "a"}, {Kind: 2, Name: "1.2.3.4", Addr: api.Addr{12: 1, 13: 2, 14: 3, 15: 4}}, {Kind: 2, Addr: api.Addr{0: 1}}, {Kind: 3, Name: "[::]"}, {Kind: 4, Name: "a"}, {Kind: -1}, {Kind: 1<<32 + 1, Name: "a"},
-	} {
-		all = append(all, api.URL{Host: h, Port: 80, Path: "/"})
-	}
-	for _, path := range []string{"", "a", "a/", " /", "/ ", "/a b", "/?", "/#", "/a?b", "/a#b", "?", "#", "/\x00", "/\x7f", "/\x80", "/\xff", "/ä", "/\n", pathOf(2049), pathOf(1 << 16)} {
-		all = append(all, api.URL{Host: a, Port: 80, Path: path})
-	}
-	for _, u := range all {
-		u.Secure = true
-		all = append(all, u)
-	}
-	return all
-}
-
 func TestWrongURLs(t *testing.T) {
-	for _, u := range wrong() {
+	for _, u := range sample.WrongURLs() {
 		if url.Right(u) {
 			t.Errorf("Right(%.200s)", fmt.Sprint(u))
 		}
