@@ -8,16 +8,11 @@ import (
 
 	"cracknel/api"
 	"cracknel/dfa"
+	"cracknel/sample"
 )
 
 // most is how many states there may be.
 const most = 65536
-
-// oddNumbers are far from all symbols and states, or such in another size.
-var oddNumbers = []int{-1, -2, -255, -256, -512, -65536, 1 << 20, 1 << 31, 1<<31 - 1, 1 << 32, 1<<32 + 1, 1<<32 + 2, 1 << 62, 1<<63 - 1, -1 << 63, -1<<63 + 1, -1 << 31, -1 << 32}
-
-// wrongKs are none that an automaton can have.
-var wrongKs = append([]int{0, 513, 514, 1024, 65536, 65537}, oddNumbers...)
 
 // op is a call of P15.3 for two, and what of what each tells it tells.
 type op struct {
@@ -33,77 +28,6 @@ func ops() []op {
 		{"Either", dfa.Either, func(a, b bool) bool { return a || b }},
 		{"Less", dfa.Less, func(a, b bool) bool { return a && !b }},
 	}
-}
-
-// words: all words of k symbols, up to a length.
-func words(k, length int) [][]int {
-	all := [][]int{nil}
-	for i := 0; i < len(all); i++ {
-		if len(all[i]) == length {
-			break
-		}
-		for x := range k {
-			all = append(all, append(slices.Clone(all[i]), x))
-		}
-	}
-	return all
-}
-
-// cycle: over k symbols, each of which goes round n states; only the first one
-// is told.
-func cycle(k, n int) api.DFA {
-	d := api.DFA{K: k, Next: make([]int, 0, k*n), Accept: make([]bool, n)}
-	for s := range n {
-		d.Next = append(d.Next, slices.Repeat([]int{(s + 1) % n}, k)...)
-	}
-	d.Accept[0] = true
-	return d
-}
-
-// tailed: as many states ahead, one behind the other, and a cycle then.
-func tailed(k, ahead, n int) api.DFA {
-	d := api.DFA{K: k, Accept: make([]bool, ahead+n)}
-	for s := range ahead + n {
-		to := s + 1
-		if to == ahead+n {
-			to = ahead
-		}
-		d.Next = append(d.Next, slices.Repeat([]int{to}, k)...)
-		d.Accept[s] = s%3 == 0
-	}
-	return d
-}
-
-// turns: over two symbols, of which one goes round n states, and the other one
-// stays.
-func turns(by, n int) api.DFA {
-	d := api.DFA{K: 2, Accept: make([]bool, n)}
-	for s := range n {
-		to := []int{s, s}
-		to[by] = (s + 1) % n
-		d.Next = append(d.Next, to...)
-		d.Accept[s] = s%2 == 1
-	}
-	return d
-}
-
-// entered: one state ahead of an automaton, from which all symbols go to where
-// that one starts.
-func entered(d api.DFA) api.DFA {
-	n := len(d.Accept)
-	return api.DFA{K: d.K, Start: n, Next: append(slices.Clone(d.Next), slices.Repeat([]int{d.Start}, d.K)...), Accept: append(slices.Clone(d.Accept), false)}
-}
-
-// anyDFA: one of n states, not all of which need be come to.
-func anyDFA(r *rand.Rand, k, n int) api.DFA {
-	d := api.DFA{K: k, Start: r.IntN(n), Next: make([]int, k*n), Accept: make([]bool, n)}
-	for i := range d.Next {
-		d.Next[i] = r.IntN(n)
-	}
-	for s := range n {
-		d.Accept[s] = r.IntN(2) > 0
-	}
-	return d
 }
 
 // right says once more what the chapter says of RIGHT.
@@ -276,50 +200,12 @@ func isNot(t *testing.T, d api.DFA) api.DFA {
 	return not
 }
 
-// wrong: automata that aren't RIGHT. Each would be, but for one thing.
-func wrong() []api.DFA {
-	all := []api.DFA{
-		{}, {K: 1}, {K: 1, Next: []int{0}}, {K: 1, Accept: []bool{true}}, {Next: []int{0}}, {Accept: []bool{true}}, {Accept: []bool{true, true}}, {K: 512}, {Next: []int{0}, Accept: []bool{true}}, {Start: 1},
-		{K: 1, Next: []int{}, Accept: []bool{}}, {K: 2, Next: []int{0, 0}}, {K: 2, Next: []int{0, 0}, Accept: []bool{}},
-		// Numbers of Next that would do of as many states as K, or of none.
-		{K: 2, Next: []int{0, 1, 1}, Accept: []bool{true, true}}, {K: 3, Next: []int{0, 0}, Accept: []bool{true}}, {K: 2, Next: []int{0, 1, 1, 0, 0}, Accept: []bool{true, true}},
-		// What is as many only where numbers wrap round.
-		{K: 1 << 62, Accept: make([]bool, 4)}, {K: 1 << 63 >> 1, Accept: make([]bool, 2)}, {K: 1 << 60, Accept: make([]bool, 16)}, {K: 1<<62 + 1, Next: make([]int, 4), Accept: make([]bool, 4)}, {K: -1 << 63, Accept: make([]bool, 2)},
-		cycle(1, most+1), cycle(2, most+1), cycle(513, 1), cycle(513, 2),
-	}
-	for _, k := range wrongKs {
-		if k != 1 {
-			all = append(all, api.DFA{K: k, Next: []int{0}, Accept: []bool{true}}, api.DFA{K: k, Accept: []bool{true}}, api.DFA{K: k})
-		}
-	}
-	for _, d := range []api.DFA{cycle(1, 1), cycle(1, 2), cycle(2, 1), cycle(2, 3), cycle(3, 5), cycle(512, 2), cycle(1, 65536)} {
-		n := len(d.Accept)
-		for _, odd := range append([]int{n, n + 1}, oddNumbers...) {
-			start := d
-			start.Start = odd
-			all = append(all, start)
-			for _, at := range []int{0, len(d.Next) / 2, len(d.Next) - 1} {
-				next := d
-				next.Next = slices.Clone(d.Next)
-				next.Next[at] = odd
-				all = append(all, next)
-			}
-		}
-		shorter, longer, none := d, d, d
-		shorter.Next = d.Next[:len(d.Next)-1]
-		longer.Next = append(slices.Clone(d.Next), 0)
-		none.Next = nil
-		all = append(all, shorter, longer, none)
-	}
-	return all
-}
-
 // P15.1
 
 func TestRight(t *testing.T) {
 	for _, k := range []int{1, 2, 3, 92, 511, 512} {
 		for _, n := range []int{1, 2, 3, 7, 100} {
-			d := cycle(k, n)
+			d := sample.Cycle(k, n)
 			isRight(t, d, true)
 			for _, s := range []int{0, n - 1, n / 2} {
 				d.Start = s
@@ -330,35 +216,35 @@ func TestRight(t *testing.T) {
 		}
 	}
 	isRight(t, api.DFA{K: 1, Next: []int{0}, Accept: []bool{false}}, true)
-	isRight(t, api.DFA{K: 1, Start: 65535, Next: cycle(1, most).Next, Accept: make([]bool, most)}, true)
+	isRight(t, api.DFA{K: 1, Start: 65535, Next: sample.Cycle(1, most).Next, Accept: make([]bool, most)}, true)
 }
 
 func TestRightOfManyStates(t *testing.T) {
 	for _, n := range []int{65534, 65535, 65536} {
-		d := cycle(1, n)
+		d := sample.Cycle(1, n)
 		d.Start = n - 1
 		isRight(t, d, true)
 		isTold(t, d, true, 0)
-		isRight(t, cycle(3, n), true)
+		isRight(t, sample.Cycle(3, n), true)
 	}
 	for _, n := range []int{65537, 65538, 65537 + 65536, 1 << 20} {
-		isRight(t, cycle(1, n), false)
-		isTold(t, cycle(1, n), false)
+		isRight(t, sample.Cycle(1, n), false)
+		isTold(t, sample.Cycle(1, n), false)
 	}
 }
 
 func TestRightOfWrongOnes(t *testing.T) {
-	for _, d := range wrong() {
+	for _, d := range sample.WrongDFAs() {
 		isRight(t, d, false)
 	}
 }
 
 // Each number of Next is asked, wherever it stands.
 func TestRightOfEachNumber(t *testing.T) {
-	d := cycle(3, 7)
+	d := sample.Cycle(3, 7)
 	for i := range d.Next {
 		before := d.Next[i]
-		for _, to := range append([]int{7, 8}, oddNumbers...) {
+		for _, to := range append([]int{7, 8}, sample.FarNumbers()...) {
 			d.Next[i] = to
 			isRight(t, d, false)
 			isTold(t, d, false)
@@ -401,10 +287,10 @@ func TestTellsEmptyWord(t *testing.T) {
 // wherever the word leads.
 func TestTellsOtherNumbers(t *testing.T) {
 	for _, k := range []int{1, 2, 5, 512} {
-		all := cycle(k, 1)
+		all := sample.Cycle(k, 1)
 		lost := api.DFA{K: k, Next: slices.Repeat([]int{1}, 2*k), Accept: []bool{true, false}}
 		led := api.DFA{K: k, Next: slices.Repeat([]int{1}, 2*k), Accept: []bool{false, true}}
-		for _, odd := range append([]int{k, k + 1, 2 * k}, oddNumbers...) {
+		for _, odd := range append([]int{k, k + 1, 2 * k}, sample.FarNumbers()...) {
 			for length := range 5 {
 				for at := range length + 1 {
 					w := slices.Insert(make([]int, length), at, odd)
@@ -422,7 +308,7 @@ func TestTellsOtherNumbers(t *testing.T) {
 }
 
 func TestTellsOfWrongOnes(t *testing.T) {
-	for _, d := range wrong() {
+	for _, d := range sample.WrongDFAs() {
 		isTold(t, d, false)
 		isTold(t, d, false, 0)
 		isTold(t, d, false, 0, 0, 0)
@@ -455,15 +341,15 @@ func TestTellsAllWords(t *testing.T) {
 	r := rand.New(rand.NewPCG(15, 1))
 	for range 60 {
 		k := r.IntN(3) + 1
-		d := anyDFA(r, k, r.IntN(6)+1)
+		d := sample.AnyDFA(r.IntN, k, r.IntN(6)+1)
 		isRight(t, d, true)
-		for _, w := range words(k, 5) {
+		for _, w := range sample.WordsOf(k, 5) {
 			isTold(t, d, tells(d, w...), w...)
 		}
 	}
 	for range 200 {
 		k := r.IntN(512) + 1
-		d := anyDFA(r, k, r.IntN(50)+1)
+		d := sample.AnyDFA(r.IntN, k, r.IntN(50)+1)
 		w := make([]int, r.IntN(300))
 		for i := range w {
 			w[i] = r.IntN(k)
@@ -473,7 +359,7 @@ func TestTellsAllWords(t *testing.T) {
 }
 
 func TestTellsLongWords(t *testing.T) {
-	d := cycle(1, 7)
+	d := sample.Cycle(1, 7)
 	for _, n := range []int{6, 7, 8, 70000, 70001, 7000000, 7000001} {
 		isTold(t, d, n%7 == 0, make([]int, n)...)
 	}
@@ -481,7 +367,7 @@ func TestTellsLongWords(t *testing.T) {
 	far[len(far)-1] = 1
 	isTold(t, d, false, far...)
 	far[len(far)-1] = -1
-	isTold(t, cycle(1, 1), false, far...)
+	isTold(t, sample.Cycle(1, 1), false, far...)
 }
 
 // P15.2
@@ -496,7 +382,7 @@ func TestNone(t *testing.T) {
 			isTold(t, d, false, 0, x, 0)
 		}
 	}
-	for _, k := range wrongKs {
+	for _, k := range sample.WrongKs() {
 		if k != 1 {
 			d, code := dfa.None(k)
 			isNone(t, d, code, api.ErrAuto)
@@ -526,11 +412,11 @@ func isNoWord(t *testing.T, want api.Errno, k int, w ...int) {
 
 func TestAllWords(t *testing.T) {
 	for k := 1; k <= 3; k++ {
-		for _, w := range words(k, 4) {
+		for _, w := range sample.WordsOf(k, 4) {
 			along(t, k, w...)
 			word, _ := dfa.Word(k, w...)
 			begins, _ := dfa.Begins(k, w...)
-			for _, other := range words(k, 6) {
+			for _, other := range sample.WordsOf(k, 6) {
 				isTold(t, word, slices.Equal(other, w), other...)
 				isTold(t, begins, len(other) >= len(w) && slices.Equal(other[:len(w)], w), other...)
 			}
@@ -571,7 +457,7 @@ func TestManyWords(t *testing.T) {
 }
 
 func TestWrongK(t *testing.T) {
-	for _, k := range wrongKs {
+	for _, k := range sample.WrongKs() {
 		if k != 1 {
 			isNoWord(t, api.ErrAuto, k)
 			isNoWord(t, api.ErrAuto, k, 0)
@@ -585,7 +471,7 @@ func TestWrongK(t *testing.T) {
 // A number that is no symbol undoes it, wherever in the word it stands.
 func TestWrongWords(t *testing.T) {
 	for _, k := range []int{1, 2, 92, 512} {
-		for _, odd := range append([]int{k, k + 1}, oddNumbers...) {
+		for _, odd := range append([]int{k, k + 1}, sample.FarNumbers()...) {
 			for length := range 5 {
 				for at := range length + 1 {
 					w := slices.Insert(slices.Repeat([]int{k - 1}, length), at, odd)
@@ -639,7 +525,7 @@ func TestWrongAndLong(t *testing.T) {
 				isNoWord(t, api.ErrAuto, 1, w...)
 			}
 		}
-		for _, k := range wrongKs {
+		for _, k := range sample.WrongKs() {
 			if k != 1 {
 				isNoWord(t, api.ErrAuto, k, make([]int, n)...)
 			}
@@ -652,16 +538,16 @@ func TestWrongAndLong(t *testing.T) {
 func TestNot(t *testing.T) {
 	r := rand.New(rand.NewPCG(15, 3))
 	for range 300 {
-		d := anyDFA(r, r.IntN(4)+1, r.IntN(9)+1)
+		d := sample.AnyDFA(r.IntN, r.IntN(4)+1, r.IntN(9)+1)
 		not := isNot(t, d)
-		for _, w := range words(d.K, 3) {
+		for _, w := range sample.WordsOf(d.K, 3) {
 			isTold(t, not, !tells(d, w...), w...)
 		}
 	}
 	for _, n := range []int{65535, 65536} {
-		isNot(t, cycle(2, n))
+		isNot(t, sample.Cycle(2, n))
 	}
-	isNot(t, anyDFA(r, 512, 40))
+	isNot(t, sample.AnyDFA(r.IntN, 512, 40))
 }
 
 // Where a state can't be come to, it counts still: there are as many.
@@ -682,7 +568,7 @@ func TestNotOfAllAndOfNothing(t *testing.T) {
 			isTold(t, nothing, false, w...)
 		}
 		// Neither tells a word with numbers that are no symbols.
-		for _, odd := range append([]int{k, k + 1}, oddNumbers...) {
+		for _, odd := range append([]int{k, k + 1}, sample.FarNumbers()...) {
 			for _, w := range [][]int{{odd}, {odd, 0}, {0, odd}, {0, odd, 0}, {k - 1, k - 1, odd}} {
 				isTold(t, none, false, w...)
 				isTold(t, all, false, w...)
@@ -698,7 +584,7 @@ func TestNotOfAllAndOfNothing(t *testing.T) {
 }
 
 func TestNotOfWrongOnes(t *testing.T) {
-	for _, d := range wrong() {
+	for _, d := range sample.WrongDFAs() {
 		not, code := dfa.Not(d)
 		isNone(t, not, code, api.ErrAuto)
 	}
@@ -710,7 +596,7 @@ func TestTwoSets(t *testing.T) {
 	begins, _ := dfa.Begins(2, 1, 0)
 	both, either, less := must(dfa.Both(even, begins)), must(dfa.Either(even, begins)), must(dfa.Less(even, begins))
 	turned := must(dfa.Less(begins, even))
-	for _, w := range words(2, 8) {
+	for _, w := range sample.WordsOf(2, 8) {
 		noughts := 0
 		for _, x := range w {
 			noughts += 1 - x
@@ -735,9 +621,9 @@ func TestManyPairs(t *testing.T) {
 	r := rand.New(rand.NewPCG(15, 4))
 	for range 600 {
 		k := r.IntN(4) + 1
-		a, b := anyDFA(r, k, r.IntN(8)+1), anyDFA(r, k, r.IntN(8)+1)
+		a, b := sample.AnyDFA(r.IntN, k, r.IntN(8)+1), sample.AnyDFA(r.IntN, k, r.IntN(8)+1)
 		all := areOf(t, a, b)
-		for _, w := range words(k, 3) {
+		for _, w := range sample.WordsOf(k, 3) {
 			for i, one := range ops() {
 				isTold(t, all[i], one.of(tells(a, w...), tells(b, w...)), w...)
 			}
@@ -745,7 +631,7 @@ func TestManyPairs(t *testing.T) {
 	}
 	for range 20 {
 		k := r.IntN(512) + 1
-		areOf(t, anyDFA(r, k, r.IntN(20)+1), anyDFA(r, k, r.IntN(20)+1))
+		areOf(t, sample.AnyDFA(r.IntN, k, r.IntN(20)+1), sample.AnyDFA(r.IntN, k, r.IntN(20)+1))
 	}
 }
 
@@ -757,7 +643,7 @@ func TestPairsOfOtherNumbers(t *testing.T) {
 		none := must(dfa.None(k))
 		for i, d := range append(areOf(t, all, all), areOf(t, all, none)...) {
 			isTold(t, d, i == 0 || i == 1 || i == 4 || i == 5, 0, k-1)
-			for _, odd := range append([]int{k, k + 1}, oddNumbers...) {
+			for _, odd := range append([]int{k, k + 1}, sample.FarNumbers()...) {
 				isTold(t, d, false, odd)
 				isTold(t, d, false, 0, odd)
 				isTold(t, d, false, odd, 0)
@@ -771,7 +657,7 @@ func TestItself(t *testing.T) {
 	r := rand.New(rand.NewPCG(15, 5))
 	none := func(bool, bool) bool { return false }
 	for range 100 {
-		d := anyDFA(r, r.IntN(4)+1, r.IntN(12)+1)
+		d := sample.AnyDFA(r.IntN, r.IntN(4)+1, r.IntN(12)+1)
 		all := areOf(t, d, d)
 		same := func(a, _ bool) bool { return a }
 		isOf(t, all[0], d, d, same)
@@ -784,7 +670,7 @@ func TestItself(t *testing.T) {
 		isOf(t, all[2], d, d, same)
 	}
 	// As many pairs as states, not as many as states twice.
-	for _, d := range []api.DFA{cycle(1, most), cycle(3, most), cycle(2, 60000)} {
+	for _, d := range []api.DFA{sample.Cycle(1, most), sample.Cycle(3, most), sample.Cycle(2, 60000)} {
 		areOf(t, d, d)
 		isNot(t, d)
 	}
@@ -795,7 +681,7 @@ func TestFarStates(t *testing.T) {
 	r := rand.New(rand.NewPCG(15, 6))
 	for range 100 {
 		k, n := r.IntN(3)+1, r.IntN(5)+1
-		d := anyDFA(r, k, n)
+		d := sample.AnyDFA(r.IntN, k, n)
 		far := d
 		for s := range 300 {
 			for range k {
@@ -813,12 +699,12 @@ func TestFarStates(t *testing.T) {
 		}
 	}
 	// More than MaxStates pairs there are, but one alone can be come to.
-	loop := tailed(1, 0, 1)
+	loop := sample.Tailed(1, 0, 1)
 	for range most - 1 {
 		loop.Next = append(loop.Next, len(loop.Accept))
 		loop.Accept = append(loop.Accept, true)
 	}
-	for _, made := range append(areOf(t, loop, loop), must(dfa.Both(loop, cycle(1, 1)))) {
+	for _, made := range append(areOf(t, loop, loop), must(dfa.Both(loop, sample.Cycle(1, 1)))) {
 		if len(made.Accept) != 1 {
 			t.Errorf("%d states", len(made.Accept))
 		}
@@ -828,7 +714,7 @@ func TestFarStates(t *testing.T) {
 // Of words by the side of which nothing can be told, pairs are few.
 func TestNoMoreStatesThanPairs(t *testing.T) {
 	long := make([]int, 700)
-	a, b := must(dfa.Word(1, long...)), cycle(1, 701)
+	a, b := must(dfa.Word(1, long...)), sample.Cycle(1, 701)
 	if got := pairs(a, b); got != 701*2 {
 		t.Fatal(got)
 	}
@@ -846,15 +732,15 @@ func TestMostPairs(t *testing.T) {
 		a, b api.DFA
 		want int
 	}{
-		{turns(0, 256), turns(1, 256), most},
-		{turns(1, 512), turns(0, 128), most},
-		{cycle(1, 65536), cycle(1, 1), most},
-		{cycle(1, 65536), cycle(1, 256), most},
-		{cycle(1, 257), cycle(1, 255), most - 1},
-		{entered(turns(0, 255)), entered(turns(1, 257)), most},
-		{tailed(1, 1, 255), tailed(1, 0, 257), most},
-		{tailed(1, 30000, 1), tailed(1, 30000, 35536), most},
-		{must(dfa.Word(1, make([]int, most-2)...)), cycle(1, 1), most},
+		{sample.Turns(0, 256), sample.Turns(1, 256), most},
+		{sample.Turns(1, 512), sample.Turns(0, 128), most},
+		{sample.Cycle(1, 65536), sample.Cycle(1, 1), most},
+		{sample.Cycle(1, 65536), sample.Cycle(1, 256), most},
+		{sample.Cycle(1, 257), sample.Cycle(1, 255), most - 1},
+		{sample.Entered(sample.Turns(0, 255)), sample.Entered(sample.Turns(1, 257)), most},
+		{sample.Tailed(1, 1, 255), sample.Tailed(1, 0, 257), most},
+		{sample.Tailed(1, 30000, 1), sample.Tailed(1, 30000, 35536), most},
+		{must(dfa.Word(1, make([]int, most-2)...)), sample.Cycle(1, 1), most},
 	} {
 		if got := pairs(one.a, one.b); got != one.want {
 			t.Fatalf("%d pairs, not %d", got, one.want)
@@ -866,21 +752,21 @@ func TestMostPairs(t *testing.T) {
 
 // One pair more, or many more, is too many, whatever is told.
 func TestTooManyPairs(t *testing.T) {
-	nothing := cycle(1, 256)
+	nothing := sample.Cycle(1, 256)
 	nothing.Accept[0] = false
 	for _, one := range []struct {
 		a, b api.DFA
 		want int
 	}{
-		{entered(turns(0, 256)), entered(turns(1, 256)), most + 1},
-		{tailed(1, 1, 256), cycle(1, 65536), most + 1},
-		{tailed(1, 2, 255), tailed(1, 1, 257), most + 1},
-		{cycle(1, 256), cycle(1, 257), 65792},
-		{nothing, cycle(1, 257), 65792},
-		{turns(0, 257), turns(1, 256), 65792},
-		{cycle(92, 256), cycle(92, 257), 65792},
-		{must(dfa.Word(1, make([]int, 60000)...)), tailed(1, 0, 5536), 60001 + 5536},
-		{cycle(1, 500), cycle(1, 501), 250500},
+		{sample.Entered(sample.Turns(0, 256)), sample.Entered(sample.Turns(1, 256)), most + 1},
+		{sample.Tailed(1, 1, 256), sample.Cycle(1, 65536), most + 1},
+		{sample.Tailed(1, 2, 255), sample.Tailed(1, 1, 257), most + 1},
+		{sample.Cycle(1, 256), sample.Cycle(1, 257), 65792},
+		{nothing, sample.Cycle(1, 257), 65792},
+		{sample.Turns(0, 257), sample.Turns(1, 256), 65792},
+		{sample.Cycle(92, 256), sample.Cycle(92, 257), 65792},
+		{must(dfa.Word(1, make([]int, 60000)...)), sample.Tailed(1, 0, 5536), 60001 + 5536},
+		{sample.Cycle(1, 500), sample.Cycle(1, 501), 250500},
 	} {
 		if got := pairs(one.a, one.b); got != one.want {
 			t.Fatalf("%d pairs, not %d", got, one.want)
@@ -888,12 +774,12 @@ func TestTooManyPairs(t *testing.T) {
 		areNone(t, one.a, one.b, api.ErrStates)
 		areNone(t, one.b, one.a, api.ErrStates)
 	}
-	areNone(t, cycle(1, 65536), cycle(1, 65535), api.ErrStates)
+	areNone(t, sample.Cycle(1, 65536), sample.Cycle(1, 65535), api.ErrStates)
 }
 
 func TestPairsOfWrongOnes(t *testing.T) {
-	for _, d := range wrong() {
-		for _, other := range []api.DFA{cycle(1, 1), cycle(2, 3), cycle(512, 1), cycle(1, 65536)} {
+	for _, d := range sample.WrongDFAs() {
+		for _, other := range []api.DFA{sample.Cycle(1, 1), sample.Cycle(2, 3), sample.Cycle(512, 1), sample.Cycle(1, 65536)} {
 			areNone(t, d, other, api.ErrAuto)
 			areNone(t, other, d, api.ErrAuto)
 		}
@@ -915,10 +801,10 @@ func TestUnlikeK(t *testing.T) {
 
 // ErrAuto is told ahead of too many pairs.
 func TestWrongAndManyPairs(t *testing.T) {
-	a, b := cycle(1, 256), cycle(1, 257)
+	a, b := sample.Cycle(1, 256), sample.Cycle(1, 257)
 	areNone(t, a, b, api.ErrStates)
-	areNone(t, cycle(2, 256), b, api.ErrAuto)
-	areNone(t, a, cycle(2, 257), api.ErrAuto)
+	areNone(t, sample.Cycle(2, 256), b, api.ErrAuto)
+	areNone(t, a, sample.Cycle(2, 257), api.ErrAuto)
 	for _, odd := range []int{-1, 258} {
 		far := b
 		far.Next = append(slices.Clone(b.Next), odd)
@@ -931,8 +817,8 @@ func TestWrongAndManyPairs(t *testing.T) {
 		areNone(t, a, far, api.ErrAuto)
 		areNone(t, far, a, api.ErrAuto)
 	}
-	areNone(t, cycle(1, most+1), cycle(1, 3), api.ErrAuto)
-	areNone(t, cycle(1, 3), cycle(1, most+1), api.ErrAuto)
+	areNone(t, sample.Cycle(1, most+1), sample.Cycle(1, 3), api.ErrAuto)
+	areNone(t, sample.Cycle(1, 3), sample.Cycle(1, most+1), api.ErrAuto)
 }
 
 // What is made goes on being what sets are: what is told of them in two ways
@@ -941,7 +827,7 @@ func TestLawsOfSets(t *testing.T) {
 	r := rand.New(rand.NewPCG(15, 7))
 	for range 100 {
 		k := r.IntN(3) + 1
-		a, b, c := anyDFA(r, k, 4), anyDFA(r, k, 3), anyDFA(r, k, 5)
+		a, b, c := sample.AnyDFA(r.IntN, k, 4), sample.AnyDFA(r.IntN, k, 3), sample.AnyDFA(r.IntN, k, 5)
 		notBoth := must(dfa.Not(must(dfa.Both(a, b))))
 		isOf(t, notBoth, must(dfa.Not(a)), must(dfa.Not(b)), func(a, b bool) bool { return a || b })
 		less := must(dfa.Less(a, must(dfa.Either(b, c))))
@@ -953,35 +839,6 @@ func TestLawsOfSets(t *testing.T) {
 
 // P1, P2
 
-// roomy: an automaton whose lists have spare room, with something in it.
-func roomy(d api.DFA) api.DFA {
-	next, accept := slices.Concat(d.Next, []int{71, 72, 73}), slices.Concat(d.Accept, []bool{true, false, true})
-	d.Next, d.Accept = next[:len(d.Next)], accept[:len(d.Accept)]
-	return d
-}
-
-// whole: an automaton with its spare room, in memory of its own.
-func whole(d api.DFA) api.DFA {
-	d.Next, d.Accept = slices.Clone(d.Next[:cap(d.Next)]), slices.Clone(d.Accept[:cap(d.Accept)])
-	return d
-}
-
-// same: are two automata one, list by list?
-func same(a, b api.DFA) bool {
-	return a.K == b.K && a.Start == b.Start && slices.Equal(a.Next, b.Next) && slices.Equal(a.Accept, b.Accept)
-}
-
-// spoil writes over all of an automaton's lists.
-func spoil(d api.DFA) {
-	next, accept := d.Next[:cap(d.Next)], d.Accept[:cap(d.Accept)]
-	for i := range next {
-		next[i] = -7
-	}
-	for i := range accept {
-		accept[i] = !accept[i]
-	}
-}
-
 func TestNothingIsChangedOrShared(t *testing.T) {
 	r := rand.New(rand.NewPCG(15, 8))
 	calls := []func(a, b api.DFA) (api.DFA, api.Errno){
@@ -990,22 +847,22 @@ func TestNothingIsChangedOrShared(t *testing.T) {
 	for range 50 {
 		k := r.IntN(3) + 1
 		for _, call := range calls {
-			a, b := roomy(anyDFA(r, k, r.IntN(5)+1)), roomy(anyDFA(r, k, r.IntN(5)+1))
-			beforeA, beforeB := whole(a), whole(b)
+			a, b := sample.RoomyDFA(sample.AnyDFA(r.IntN, k, r.IntN(5)+1)), sample.RoomyDFA(sample.AnyDFA(r.IntN, k, r.IntN(5)+1))
+			beforeA, beforeB := sample.WholeDFA(a), sample.WholeDFA(b)
 			d, again := must(call(a, b)), must(call(a, b))
 			dfa.Right(a)
 			dfa.Tells(a, 0)
-			if !same(whole(a), beforeA) || !same(whole(b), beforeB) {
+			if !sample.SameDFA(sample.WholeDFA(a), beforeA) || !sample.SameDFA(sample.WholeDFA(b), beforeB) {
 				t.Fatal("changed")
 			}
-			before := whole(d)
-			spoil(again)
-			if !same(whole(a), beforeA) || !same(whole(b), beforeB) || !same(whole(d), before) {
+			before := sample.WholeDFA(d)
+			sample.SpoilDFA(again)
+			if !sample.SameDFA(sample.WholeDFA(a), beforeA) || !sample.SameDFA(sample.WholeDFA(b), beforeB) || !sample.SameDFA(sample.WholeDFA(d), before) {
 				t.Fatal("an answer shares what was handed in, or another answer")
 			}
-			spoil(a)
-			spoil(b)
-			if !same(whole(d), before) {
+			sample.SpoilDFA(a)
+			sample.SpoilDFA(b)
+			if !sample.SameDFA(sample.WholeDFA(d), before) {
 				t.Fatal("an answer hangs on what was handed in")
 			}
 		}
@@ -1014,11 +871,11 @@ func TestNothingIsChangedOrShared(t *testing.T) {
 
 func TestItselfIsNotShared(t *testing.T) {
 	for _, one := range ops() {
-		d := roomy(cycle(2, 5))
-		before := whole(d)
+		d := sample.RoomyDFA(sample.Cycle(2, 5))
+		before := sample.WholeDFA(d)
 		made := must(one.call(d, d))
-		spoil(made)
-		if !same(whole(d), before) {
+		sample.SpoilDFA(made)
+		if !sample.SameDFA(sample.WholeDFA(d), before) {
 			t.Error(one.name)
 		}
 	}
@@ -1031,14 +888,14 @@ func TestWordsAreNotChangedOrKept(t *testing.T) {
 		room := []int{2, 0, 1, 9, 8, 7}
 		w := room[:3]
 		d, again := must(call(3, w...)), must(call(3, w...))
-		before := whole(d)
+		before := sample.WholeDFA(d)
 		dfa.Tells(d, w...)
 		if !slices.Equal(room, []int{2, 0, 1, 9, 8, 7}) {
 			t.Error("changed")
 		}
-		spoil(again)
+		sample.SpoilDFA(again)
 		room[0], room[1] = 1, 1
-		if !same(whole(d), before) {
+		if !sample.SameDFA(sample.WholeDFA(d), before) {
 			t.Error("shared")
 		}
 	}
@@ -1048,14 +905,14 @@ func TestAnswersHangOnArgumentsAlone(t *testing.T) {
 	r := rand.New(rand.NewPCG(15, 9))
 	for range 50 {
 		k := r.IntN(4) + 1
-		a, b := anyDFA(r, k, 9), anyDFA(r, k, 8)
+		a, b := sample.AnyDFA(r.IntN, k, 9), sample.AnyDFA(r.IntN, k, 8)
 		w := []int{r.IntN(k), r.IntN(k)}
 		run := func() []api.DFA {
 			return []api.DFA{must(dfa.Both(a, b)), must(dfa.Either(a, b)), must(dfa.Less(a, b)), must(dfa.Not(a)), must(dfa.Word(k, w...)), must(dfa.Begins(k, w...)), must(dfa.None(k))}
 		}
 		first := run()
 		for range 5 {
-			if !slices.EqualFunc(run(), first, same) {
+			if !slices.EqualFunc(run(), first, sample.SameDFA) {
 				t.Fatal("two answers")
 			}
 		}

@@ -4,6 +4,8 @@ import (
 	"slices"
 	"testing"
 
+	"cracknel/api"
+	"cracknel/dfa"
 	"cracknel/host"
 	"cracknel/sample"
 	"cracknel/url"
@@ -66,5 +68,71 @@ func TestWrongURLs(t *testing.T) {
 		if url.Right(u) {
 			t.Errorf("Right(%.100v)", u)
 		}
+	}
+}
+
+func TestWrongDFAs(t *testing.T) {
+	all := sample.WrongDFAs()
+	if len(all) < 500 {
+		t.Errorf("%d automata", len(all))
+	}
+	for i, d := range all {
+		if dfa.Right(d) {
+			t.Errorf("Right of number %d: %d symbols, %d states", i, d.K, len(d.Accept))
+		}
+	}
+}
+
+func TestRightDFAs(t *testing.T) {
+	numbers := 0
+	next := func(below int) int {
+		numbers++
+		return numbers % below
+	}
+	cycle, tailed, turns := sample.Cycle(2, 3), sample.Tailed(1, 4, 2), sample.Turns(1, 3)
+	for _, one := range []struct {
+		d    api.DFA
+		k, n int
+	}{
+		{cycle, 2, 3}, {tailed, 1, 6}, {turns, 2, 3}, {sample.Entered(cycle), 2, 4}, {sample.AnyDFA(next, 5, 7), 5, 7},
+	} {
+		if !dfa.Right(one.d) || one.d.K != one.k || len(one.d.Accept) != one.n {
+			t.Errorf("%v", one.d)
+		}
+	}
+	for _, one := range []struct {
+		d    api.DFA
+		w    []int
+		want bool
+	}{
+		{cycle, []int{0, 1, 0}, true}, {cycle, []int{1, 0}, false}, {sample.Entered(cycle), []int{1}, true}, {sample.Entered(cycle), nil, false},
+		{tailed, []int{0, 0, 0}, true}, {tailed, make([]int, 5), false}, {turns, []int{1}, true}, {turns, []int{1, 0, 0}, true}, {turns, []int{1, 1, 1}, false},
+	} {
+		if dfa.Tells(one.d, one.w...) != one.want {
+			t.Errorf("%v tells %v: %v", one.d, one.w, !one.want)
+		}
+	}
+}
+
+func TestWordsOf(t *testing.T) {
+	want := [][]int{{}, {0}, {1}, {0, 0}, {0, 1}, {1, 0}, {1, 1}}
+	if got := sample.WordsOf(2, 2); !slices.EqualFunc(got, want, slices.Equal) {
+		t.Error(got)
+	}
+	if got := sample.WordsOf(3, 0); len(got) != 1 || len(got[0]) != 0 {
+		t.Error(got)
+	}
+}
+
+func TestRoomOfDFAs(t *testing.T) {
+	d := sample.Cycle(2, 3)
+	roomy := sample.RoomyDFA(d)
+	whole := sample.WholeDFA(roomy)
+	if !sample.SameDFA(roomy, d) || sample.SameDFA(whole, d) || len(whole.Next) <= 6 || len(whole.Accept) <= 3 {
+		t.Error(roomy, whole)
+	}
+	sample.SpoilDFA(roomy)
+	if spoilt := sample.WholeDFA(roomy); slices.Contains(spoilt.Next, 71) || slices.Equal(spoilt.Accept, whole.Accept) || whole.Next[6] != 71 || d.Next[0] != 1 {
+		t.Error(spoilt, whole, d)
 	}
 }
